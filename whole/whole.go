@@ -27,6 +27,11 @@ func Abs(n int) int {
 	return max(n, -n)
 }
 
+// Passes returns by how much a number is greater than high, or less than low, whichever is more; 0 if it is neither.
+func Passes(n, low, high int) int {
+	return max(0, n-high, low-n)
+}
+
 // Fold turns a number into one that is not negative: small ones of both signs become small.
 func Fold(n int) uint64 {
 	return uint64(n)<<1 ^ uint64(n>>63)
