@@ -58,6 +58,14 @@ func Windows(x, y []int, band int) api.Errno {
 	return api.OK
 }
 
+// Warped returns the first error of two lists that are to be windows which fit a band (chapter 14).
+func Warped(x, y []int, band int) api.Errno {
+	if band < 0 || band > api.MaxWindow {
+		return api.ErrRange
+	}
+	return Windows(x, y, band)
+}
+
 // Pieces returns the error of dividing m samples into n pieces.
 func Pieces(m, n int) api.Errno {
 	if n < 1 || n > api.MaxPieces || n > m {

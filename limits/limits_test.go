@@ -40,6 +40,9 @@ func TestWindows(t *testing.T) {
 			t.Errorf("Windows(%v, %v, %d) is %d, want %d", x.x, x.y, x.band, e, x.e)
 		}
 	}
+	if limits.Warped(nil, nil, -1) != api.ErrRange || limits.Warped(nil, nil, 33) != api.ErrRange || limits.Warped(long, long[2:], 1) != api.ErrLength || limits.Warped(long, long[2:], 2) != api.OK {
+		t.Error("Warped is wrong")
+	}
 	if limits.Window(long) != api.OK || limits.Window(append(long, 5000)) != api.ErrLength || limits.Window([]int{1, 1001}) != api.ErrSample {
 		t.Error("Window is wrong")
 	}
