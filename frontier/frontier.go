@@ -32,15 +32,16 @@ func Ask(t api.Tree, st api.Store, m api.Measure, query []int) Question {
 	return q
 }
 
+// Of returns the same question about another query.
+func (q Question) Of(query []int) Question {
+	q.query = query
+	return q
+}
+
 // Front returns a node with its bound, for as many samples of the query as the tree's words stand for.
 func (q Question) Front(node int) api.Front {
 	b, _ := bound.Region(q.scheme, q.query[:q.scheme.Length], q.tree.Nodes[node].Word)
 	return api.Front{Node: node, Bound: b}
-}
-
-// Filled reports whether a node, or a node below it, has entries.
-func (q Question) Filled(node int) bool {
-	return q.filled[node]
 }
 
 // Below returns the children of a node that have entries, with their bounds.
