@@ -7,10 +7,20 @@ import (
 	"shapesearch/api"
 	"shapesearch/bound"
 	"shapesearch/measure"
+	"shapesearch/order"
 	"shapesearch/ratio"
 	"shapesearch/run"
 	"shapesearch/store"
+	"shapesearch/tree"
 )
+
+// Check returns the error of a tree, or of a store.
+func Check(t api.Tree, st api.Store) api.Errno {
+	if e := tree.Check(t); e != api.OK {
+		return e
+	}
+	return store.Check(st)
+}
 
 // Question is a query to the windows of a store with its tree. All of them are valid, and the query has at least the
 // Length of the tree's scheme.
@@ -116,8 +126,8 @@ func Covers(t api.Tree, st api.Store) bool {
 
 // Before reports whether an open node is taken before another one.
 func Before(a, b api.Front) bool {
-	order := ratio.Cmp(a.Bound, b.Bound)
-	return order < 0 || order == 0 && a.Node < b.Node
+	c := ratio.Cmp(a.Bound, b.Bound)
+	return c < 0 || c == 0 && a.Node < b.Node
 }
 
 // Ends reports whether nothing can come before the first count hits any more, if the least bound is this one.
@@ -134,13 +144,5 @@ func Keep(best, more []api.Hit, count int) []api.Hit {
 
 // Sort brings hits into their order.
 func Sort(hits []api.Hit) {
-	slices.SortFunc(hits, func(a, b api.Hit) int {
-		switch {
-		case store.Before(a, b):
-			return -1
-		case store.Before(b, a):
-			return 1
-		}
-		return 0
-	})
+	slices.SortFunc(hits, order.Hits)
 }
