@@ -105,6 +105,7 @@ func TestPack(t *testing.T) {
 		{make([]int, api.MaxSeries+1), 33, nil, api.ErrRange},
 		{make([]int, api.MaxSeries+1), 1, nil, api.ErrLimit},
 		{append(make([]int, api.MaxSeries), 2), 1, nil, api.ErrLimit},
+		{make([]int, api.MaxSeries), 1, make([]byte, api.MaxSeries/8), api.OK},
 	} {
 		if b, e := codec.Pack(x.l, x.width); !slices.Equal(b, x.want) || e != x.e {
 			t.Errorf("%d: Pack is %v, %d", i, b, e)

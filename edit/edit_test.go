@@ -135,6 +135,7 @@ func TestCost(t *testing.T) {
 		{[]int{1, 1}, 0, api.ErrPath},
 		{[]int{1, 3, 3}, 0, api.ErrPath},
 		{[]int{1, 1, 1}, 0, api.ErrPath},
+		{[]int{3, 3, 3, 1}, 0, api.ErrPath},
 		{[]int{1, 3, 1, 2}, 0, api.ErrPath},
 		{[]int{1, 3, 1, 3}, 0, api.ErrPath},
 		{[]int{0, 1, 3, 1}, 0, api.ErrPath},

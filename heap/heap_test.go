@@ -55,6 +55,10 @@ func TestEncode(t *testing.T) {
 	if b, e := heap.Encode(most); len(b) != 2+4096 || e != api.OK {
 		t.Errorf("4096 records: %d bytes, %d", len(b), e)
 	}
+	all, _ := heap.Encode(most)
+	if l, e := heap.Decode(all); len(l) != 4096 || e != api.OK {
+		t.Errorf("4096 records are read as %d, %d", len(l), e)
+	}
 	if b, e := heap.Encode(append(most, nil)); len(b) > 0 || e != api.ErrLimit {
 		t.Errorf("4097 records: %d bytes, %d", len(b), e)
 	}
@@ -185,6 +189,14 @@ func TestPlan(t *testing.T) {
 	d, e = heap.Commit(d, records)
 	if e != api.OK {
 		t.Fatal(e)
+	}
+	almost := made(40)
+	copy(almost.Pages[0], rootPage(1<<31-2, 1))
+	long := [][]byte{make([]byte, 1000)}
+	long[0][999] = 3
+	x, e := heap.Commit(almost, long)
+	if l, version, loaded := heap.Load(x); !same(l, long) || version != 1<<31-1 || e != api.OK || loaded != api.OK {
+		t.Errorf("the last version is %d, %d, %d", version, e, loaded)
 	}
 	want = []api.Action{{Write: api.Write{Page: 2, Bytes: page(0)}}, {Flush: true}, {Write: api.Write{Page: 0, Bytes: rootPage(2, 1)}}, {Flush: true}}
 	if plan, e := heap.Plan(d, nil); !reflect.DeepEqual(plan, want) || e != api.OK {

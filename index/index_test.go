@@ -71,6 +71,15 @@ func TestEncode(t *testing.T) {
 	if y, e := index.Decode(want); !reflect.DeepEqual(y, x) || e != api.OK {
 		t.Errorf("Decode is %v, %d", y, e)
 	}
+	var l []api.Entry
+	for i := range api.MaxEntries {
+		l = append(l, api.Entry{Word: word(1, 2), Place: api.Place{Series: 1, Start: i}})
+	}
+	full, _ := tree.Of(s, 64, l)
+	records, _ := index.Encode(full)
+	if y, e := index.Decode(records); !reflect.DeepEqual(y, full) || e != api.OK {
+		t.Errorf("a full tree is read as %d nodes, %d", len(y.Nodes), e)
+	}
 	empty, _ := tree.New(s, 1)
 	if l, e := index.Encode(empty); len(l) != 1 || e != api.OK {
 		t.Errorf("a tree without entries has the records %v, %d", l, e)

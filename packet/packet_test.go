@@ -43,8 +43,12 @@ func TestEncode(t *testing.T) {
 		{append(full[:2000:2000], api.Reading{Time: -1}), nil, api.ErrLimit},
 		{[]api.Reading{{Value: 1001}}, nil, api.ErrRange},
 	} {
-		if b, e := packet.Encode(x.l); !bytes.Equal(b, x.want) || e != x.e {
+		b, e := packet.Encode(x.l)
+		if !bytes.Equal(b, x.want) || e != x.e {
 			t.Errorf("%d: Encode is %v, %d", i, b, e)
+		}
+		if l, e := packet.Decode(b); x.e == api.OK && (!slices.Equal(l, x.l) || e != api.OK) {
+			t.Errorf("%d: Decode is %v, %d", i, l, e)
 		}
 	}
 }

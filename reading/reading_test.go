@@ -53,6 +53,10 @@ func TestParseLines(t *testing.T) {
 // TestParseLimits tests the errors of P5.1 that come ahead of all lines, and the limit of readings.
 func TestParseLimits(t *testing.T) {
 	many := slices.Repeat([]api.Unit{raw}, api.MaxUnits+1)
+	var different []api.Unit
+	for i := range api.MaxUnits {
+		different = append(different, api.Unit{Name: string(rune('a' + i)), Mul: 1, Div: 1})
+	}
 	wrong := []api.Unit{raw, raw, {Name: "x"}}
 	long := strings.Repeat("\n", api.MaxText)
 	for i, x := range []struct {
@@ -62,6 +66,7 @@ func TestParseLimits(t *testing.T) {
 		e     api.Errno
 	}{
 		{long, both, 0, api.OK},
+		{"#", different, 0, api.OK},
 		{long + "\n", wrong, 0, api.ErrLimit},
 		{"x", many, 0, api.ErrLimit},
 		{"x", wrong, 0, api.ErrUnit},
@@ -110,6 +115,8 @@ func TestFormat(t *testing.T) {
 	}{
 		{long[:api.MaxText/line], api.MaxText / line * line, api.OK},
 		{long[:api.MaxText/line+1], 0, api.ErrLimit},
+		{append(long[:682:682], api.Reading{Time: 100000, Value: 1000}), api.MaxText, api.OK},
+		{append(long[:682:682], api.Reading{Time: 100000, Value: -1000}), 0, api.ErrLimit},
 		{append(long[:1999:1999], api.Reading{Time: -1}), 0, api.ErrRange},
 		{append(long[:2000:2000], api.Reading{Time: -1}), 0, api.ErrLimit},
 		{[]api.Reading{{Time: api.MaxTime + 1}}, 0, api.ErrRange},

@@ -127,6 +127,7 @@ func TestExamples(t *testing.T) {
 	}{
 		{x, y, r(34, 25)}, {x, x, r(0, 1)}, {x, flat, r(1, 1)}, {flat, x, r(1, 1)}, {flat, flat, r(0, 1)},
 		{of(t, []int{0, 1000}, 2), of(t, []int{1000, 0}, 2), r(2, 1)},
+		{of(t, []int{-1000, 1000}, 2), of(t, []int{1000, -1000}, 2), r(2, 1)},
 		{of(t, []int{1, 0, 0, 0}, 4), of(t, []int{0, 1, 1, 0}, 4), r(4, 3)},
 	} {
 		if a, e := sketch.Gap(v.a, v.b); a != v.want || e != api.OK {

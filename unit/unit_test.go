@@ -90,6 +90,7 @@ func TestConvert(t *testing.T) {
 		e    api.Errno
 	}{
 		{"2.5", raw, 3, api.OK}, {"-2.5", raw, -2, api.OK}, {"-2.500001", raw, -3, api.OK}, {"36.6", warm, 98, api.OK},
+		{"0.5", raw, 1, api.OK}, {"0.50", raw, 1, api.OK}, {"0.500", raw, 1, api.OK}, {"0.5000", raw, 1, api.OK}, {"0.50000", raw, 1, api.OK}, {"0.500000", raw, 1, api.OK}, {"0.499999", raw, 0, api.OK},
 		{"1000.499999", raw, 0, api.ErrForm}, {"1000.49999", raw, 1000, api.OK}, {"-1000.5", raw, -1000, api.OK},
 		{"1000.5", raw, 0, api.ErrSample}, {"1001", raw, 0, api.ErrSample}, {"-1001", raw, 0, api.ErrSample},
 		{"1000000000", api.Unit{Name: "k", Mul: 1000000, Add: 1000000000, Div: 1000000}, 0, api.ErrSample},

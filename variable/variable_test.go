@@ -160,7 +160,7 @@ func TestScaled(t *testing.T) {
 		{trial.BadMeasure(), []int{1}, many, st, api.ErrMeasure},
 		{euclid, []int{1}, many, st, api.ErrLength},
 		{euclid, []int{1, 1001}, many, st, api.ErrSample},
-		{euclid, []int{1, 2, 3}, append(many, 1), st, api.ErrLimit},
+		{euclid, []int{1, 2, 3}, append(many[:32:32], 1), st, api.ErrLimit},
 		{euclid, []int{1, 2, 3}, []int{2, 1}, st, api.ErrLength},
 		{euclid, []int{1, 2, 3}, []int{2, 4}, st, api.ErrLength},
 		{euclid, []int{1, 2, 3}, []int{math.MinInt}, st, api.ErrLength},

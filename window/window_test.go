@@ -78,6 +78,7 @@ func TestVariance(t *testing.T) {
 	}{
 		{api.Stats{Count: 2, Sum: 1, Square: 5}, 9},
 		{api.Stats{Count: 2, Sum: -2, Square: 2}, 0},
+		{api.Stats{Count: 1, Sum: 1, Square: 5}, 4},
 		{api.Stats{Count: 2, Sum: 2, Square: 1}, 0},
 		{api.Stats{Count: 2000, Sum: 0, Square: 2000000000}, 4000000000000},
 		{api.Stats{Count: 0}, 0},
