@@ -7,12 +7,23 @@ import (
 	"shapesearch/frontier"
 )
 
-// fronts is a heap (package container/heap) of open nodes.
+// queue keeps the open nodes of a search in order: it is a heap, and a search can use it.
+type queue interface {
+	heap.Interface
+	frontier.Open
+}
+
+// fronts is a queue as a list.
 type fronts []api.Front
 
-func (f fronts) Len() int           { return len(f) }
+// Len returns the number of nodes, for the heap.
+func (f fronts) Len() int { return len(f) }
+
+// Less reports whether a node is taken before another one, for the heap.
 func (f fronts) Less(i, j int) bool { return frontier.Before(f[i], f[j]) }
-func (f fronts) Swap(i, j int)      { f[i], f[j] = f[j], f[i] }
+
+// Swap exchanges two nodes, for the heap.
+func (f fronts) Swap(i, j int) { f[i], f[j] = f[j], f[i] }
 
 // Push adds a node at the end, for the heap.
 func (f *fronts) Push(x any) {
@@ -29,19 +40,16 @@ func (f *fronts) Pop() any {
 	return front
 }
 
-// queue is where the open nodes of a search wait.
-type queue struct{ waiting fronts }
-
 // Put adds a node.
-func (q *queue) Put(f api.Front) {
-	heap.Push(&q.waiting, f)
+func (f *fronts) Put(x api.Front) {
+	heap.Push(f, x)
 }
 
 // Take returns the next node, and removes it.
-func (q *queue) Take() (api.Front, bool) {
-	if len(q.waiting) == 0 {
+func (f *fronts) Take() (api.Front, bool) {
+	if len(*f) == 0 {
 		return api.Front{}, false
 	}
-	front, ok := heap.Pop(&q.waiting).(api.Front)
+	front, ok := heap.Pop(f).(api.Front)
 	return front, ok
 }
